@@ -1,0 +1,66 @@
+"""A session: both sides, what the receiver is sure of, and the counts of pieces."""
+
+from twosenders.receiving import doubt_byte
+from twosenders.sides import Side, take_byte, take_picture
+from twosenders.sureness import Sureness, lose_sender, trust_picture
+
+SENDING = 0
+RECEIVING = 1
+
+
+class Session:
+    def __init__(self, width, height):
+        self.begin(width, height)
+
+    def begin(self, width, height):
+        self.height = height
+        self.sides = [Side(width, height), Side(width, height)]
+        self.sureness = Sureness(width, height)
+        self.sent = [0, 0]
+        self.known = [0, 0]
+        self.lost = [0, 0]
+
+
+def counts(session, i):
+    return [session.sent[i], session.known[i], session.lost[i]]
+
+
+def learn(session, i, many):
+    """The receiver learns that the sender sent so many pieces; those it did not know of are lost."""
+    missing = many - session.known[i]
+    if missing > 0:
+        session.lost[i] += missing
+        session.known[i] = many
+        lose_sender(session.sureness, i)
+
+
+def count_piece(session, i, comes):
+    if comes:
+        learn(session, i, session.sent[i])
+        session.known[i] += 1
+    session.sent[i] += 1
+
+
+def receive_byte(session, i, byte):
+    side = session.sides[RECEIVING]
+    doubt_byte(session.sureness, side, i, byte)
+    take_byte(side, i, byte)
+
+
+def send_bytes(session, i, comes, sent):
+    count_piece(session, i, comes)
+    for byte in sent:
+        take_byte(session.sides[SENDING], i, byte)
+        if comes:
+            receive_byte(session, i, byte)
+
+
+def send_picture(session, i, comes):
+    count_piece(session, i, comes)
+    if comes:
+        take_picture(session.sides[RECEIVING], i, session.sides[SENDING])
+        trust_picture(session.sureness, i)
+
+
+def tell_sent(session, i):
+    learn(session, i, session.sent[i])
