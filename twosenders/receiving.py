@@ -1,4 +1,4 @@
-"""Pieces as the receiver learns of them, with what it may be sure of."""
+"""How bytes that come change what the receiver may be sure of."""
 
 from twosenders.doubt import doubt_anew, doubt_control
 from twosenders.held import ESCAPE, ends_control, is_held_too, letter_of, numbers_told, screen_told
