@@ -27,6 +27,22 @@ def row(side, screen, number):
     return [4, side, screen, number]
 
 
+def sure(screen, number):
+    return [5, screen, number]
+
+
+def pen(side, i):
+    return [6, side, i]
+
+
+def pensure(i):
+    return [7, i]
+
+
+def wrong():
+    return [8]
+
+
 def count(i):
     return [9, i]
 
@@ -40,6 +56,15 @@ def ask(*calls):
         given = given[1 + given[0]:]
     assert len(parted) == len(calls)
     return parted
+
+
+def all_told(height):
+    """The calls that tell all there is to tell, on both sides and screens and of both senders."""
+    both = (0, 1)
+    rows = [row(side, screen, number) for side in both for screen in both for number in range(height)]
+    cells = [sure(screen, number) for screen in both for number in range(height)]
+    pens = [pen(side, i) for side in both for i in both]
+    return rows + cells + pens + [pensure(0), pensure(1), wrong(), count(0), count(1)]
 
 
 def signs(answer):
@@ -67,7 +92,7 @@ def coloured(sent, width=6, height=2):
 
 
 def session_after(*calls):
-    """The session itself, for what no call tells."""
+    """The session itself, for what no call tells: which rows go on, and halves."""
     session = Session(6, 2)
     for call in calls:
         answer_call(session, call)

@@ -1,4 +1,4 @@
-"""The promises 1 to 5 and 10, call by call, with their refusals."""
+"""The promises 1 to 5, call by call, with their refusals."""
 
 import unittest
 
@@ -137,19 +137,6 @@ class Row(unittest.TestCase):
         self.assertEqual(given[1], given[2])
         self.assertEqual(given[1], given[5])
         self.assertEqual(given[6], [1, 1, 0])
-
-
-class Count(unittest.TestCase):
-    def test_counts_of_each_sender(self):
-        self.assertEqual(ask(send(0, 1, b""), send(0, 0, b""), send(1, 0, b""), send(0, 1, b""), count(0), count(1))[4:],
-                         [[3, 3, 1], [1, 0, 0]])
-
-    def test_the_receiver_learns_nothing(self):
-        self.assertEqual(ask(send(0, 0, b""), count(0), count(0)), [[1, 0, 0]] * 3)
-
-    def test_refuses_other_senders(self):
-        for i in NEITHER:
-            self.assertEqual(ask(count(i)), [[-2]])
 
 
 if __name__ == "__main__":

@@ -328,8 +328,8 @@ class Kept(unittest.TestCase):
         self.assertEqual(written(b"abcdef\x1b[sg"), [b"abcdef", b"g     "])
 
     def test_each_senders_and_each_screens_own(self):
-        given = ask(send(0, 1, b"ab\x1b[s"), send(1, 1, b"\x1b[ux\x1b[s"), send(0, 1, b"\x1b[47h\x1b[1;5H\x1b[s\x1b[47l"),
-                    send(0, 1, b"\r\x1b[uy"), row(0, 0, 0))
+        given = ask(send(0, 1, b"ab\x1b[s"), send(1, 1, b"\x1b[ux\x1b[s"),
+                    send(0, 1, b"\x1b[47h\x1b[1;5H\x1b[s\x1b[47l"), send(0, 1, b"\r\x1b[uy"), row(0, 0, 0))
         self.assertEqual(signs(given[4]), b"xby   ")
 
 

@@ -1,9 +1,9 @@
-"""What is sure at the receiver; the session itself is looked at."""
+"""What is sure at the receiver, line by line, seen through sure and pensure."""
 
 import random
 import unittest
 
-from tests.helper import ESC, beat, picture, send, session_after, size
+from tests.helper import ESC, ask, beat, pensure, picture, send, size, sure, wrong
 
 ALL = "++++"
 NONE = "----"
@@ -13,21 +13,21 @@ def shown(flags):
     return "".join("+" if flag else "-" for flag in flags)
 
 
-def cells(session, screen=0):
-    return [shown(row) for row in session.sureness.screens[screen].rows]
+def cells(calls, screen=0):
+    """What is sure of each row there is, once the calls are made."""
+    told = ask(*calls, *[sure(screen, number) for number in range(6)])[len(calls):]
+    return [shown(answer) for answer in told if answer != [-3]]
 
 
-def own(session, i=0):
+def own(calls, i=0):
     """What's held and which screen; then of each screen the place, the kept place, the colour, the region."""
-    sure = session.sureness.senders[i]
-    pens = [shown([pen.place, pen.kept_place, pen.colour, pen.region]) for pen in sure.pens]
-    return [shown([sure.held, sure.shown])] + pens
+    told = shown(ask(*calls, pensure(i))[-1])
+    return [told[:2], told[2:6], told[6:]]
 
 
 def doubtful(*pieces, width=4, height=3, before=b""):
     """A piece of the sender 0 is lost, then its other pieces come."""
-    return session_after(size(width, height), send(0, 1, before), send(0, 0, b""),
-                         *[send(0, 1, piece) for piece in pieces])
+    return [size(width, height), send(0, 1, before), send(0, 0, b"")] + [send(0, 1, piece) for piece in pieces]
 
 
 def one_unsure(sent, width=6, height=1, unsure=b"\x1b[1;3H"):
@@ -37,87 +37,109 @@ def one_unsure(sent, width=6, height=1, unsure=b"\x1b[1;3H"):
 
 class AtFirst(unittest.TestCase):
     def test_all_is_sure(self):
-        session = session_after(size(4, 3))
+        calls = [size(4, 3)]
         for screen in (0, 1):
-            self.assertEqual(cells(session, screen), [ALL] * 3)
-            self.assertEqual(own(session, screen), ["++", ALL, ALL])
+            self.assertEqual(cells(calls, screen), [ALL] * 3)
+            self.assertEqual(own(calls, screen), ["++", ALL, ALL])
 
     def test_what_comes_stays_sure(self):
-        session = session_after(size(4, 2), send(0, 1, b"abcdefghij\xc0\x1b[2J\x1b[P\x1b[L\x1b[47hxyz\x1b[u\x1b["))
-        self.assertEqual([cells(session), cells(session, 1)], [[ALL] * 2] * 2)
-        self.assertEqual(own(session), ["++", ALL, ALL])
+        calls = [size(4, 2), send(0, 1, b"abcdefghij\xc0\x1b[2J\x1b[P\x1b[L\x1b[47hxyz\x1b[u\x1b[")]
+        self.assertEqual([cells(calls), cells(calls, 1)], [[ALL] * 2] * 2)
+        self.assertEqual(own(calls), ["++", ALL, ALL])
 
     def test_what_is_not_known_to_be_lost_stays_sure(self):
-        session = session_after(size(4, 2), send(0, 0, b"abc"))
-        self.assertEqual(cells(session), [ALL] * 2)
-        self.assertEqual(own(session), ["++", ALL, ALL])
+        calls = [size(4, 2), send(0, 0, b"abc")]
+        self.assertEqual(cells(calls), [ALL] * 2)
+        self.assertEqual(own(calls), ["++", ALL, ALL])
 
 
 class Lost(unittest.TestCase):
-    def check_lost(self, session):
-        self.assertEqual([cells(session), cells(session, 1)], [[NONE] * 2] * 2)
-        self.assertEqual(own(session), ["--", NONE, NONE])
-        self.assertEqual(own(session, 1), ["++", ALL, ALL])
+    def check_lost(self, calls):
+        self.assertEqual([cells(calls), cells(calls, 1)], [[NONE] * 2] * 2)
+        self.assertEqual(own(calls), ["--", NONE, NONE])
+        self.assertEqual(own(calls, 1), ["++", ALL, ALL])
 
     def test_learned_from_a_beat(self):
-        self.check_lost(session_after(size(4, 2), send(0, 0, b""), beat(0)))
+        self.check_lost([size(4, 2), send(0, 0, b""), beat(0)])
 
     def test_learned_from_a_piece(self):
-        self.check_lost(session_after(size(4, 2), send(0, 0, b""), send(0, 1, b"")))
+        self.check_lost([size(4, 2), send(0, 0, b""), send(0, 1, b"")])
 
     def test_a_lost_picture_is_lost_too(self):
-        self.check_lost(session_after(size(4, 2), picture(0, 0), beat(0)))
+        self.check_lost([size(4, 2), picture(0, 0), beat(0)])
 
     def test_told_again_nothing_more_is_lost(self):
-        session = session_after(size(4, 2), send(0, 0, b""), beat(0), send(1, 1, b"\x1b[2J"), beat(0), beat(1))
-        self.assertEqual([cells(session), cells(session, 1)], [[ALL] * 2, [NONE] * 2])
+        calls = [size(4, 2), send(0, 0, b""), beat(0), send(1, 1, b"\x1b[2J"), beat(0), beat(1)]
+        self.assertEqual([cells(calls), cells(calls, 1)], [[ALL] * 2, [NONE] * 2])
 
     def test_a_picture_makes_sure_what_is_its_senders(self):
-        session = session_after(size(4, 2), send(0, 0, b""), send(1, 0, b""), beat(0), picture(1, 1))
-        self.assertEqual([cells(session), cells(session, 1)], [[ALL] * 2] * 2)
-        self.assertEqual([own(session), own(session, 1)], [["--", NONE, NONE], ["++", ALL, ALL]])
+        calls = [size(4, 2), send(0, 0, b""), send(1, 0, b""), beat(0), picture(1, 1)]
+        self.assertEqual([cells(calls), cells(calls, 1)], [[ALL] * 2] * 2)
+        self.assertEqual([own(calls), own(calls, 1)], [["--", NONE, NONE], ["++", ALL, ALL]])
 
     def test_size_makes_all_new(self):
-        session = session_after(size(4, 2), send(0, 0, b""), beat(0), size(4, 3))
-        self.assertEqual(cells(session), [ALL] * 3)
-        self.assertEqual(own(session), ["++", ALL, ALL])
+        calls = [size(4, 2), send(0, 0, b""), beat(0), size(4, 3)]
+        self.assertEqual(cells(calls), [ALL] * 3)
+        self.assertEqual(own(calls), ["++", ALL, ALL])
 
 
 class HeldAndShown(unittest.TestCase):
     def test_27_makes_sure_what_is_held_alone(self):
-        session = doubtful(b"\x1b")
-        self.assertEqual(own(session), ["+-", NONE, NONE])
-        self.assertEqual(cells(session), [NONE] * 3)
+        calls = doubtful(b"\x1b")
+        self.assertEqual(own(calls), ["+-", NONE, NONE])
+        self.assertEqual(cells(calls), [NONE] * 3)
 
     def test_other_bytes_leave_nothing_sure(self):
         # The sender 1 clears both screens; one byte of the sender 0 takes all of it back.
         for byte in b"a[K\x00\n\xc0":
-            session = session_after(size(4, 1), send(0, 0, b""), beat(0), send(1, 1, b"\x1b[2J\x1b[47h\x1b[2J"),
-                                    send(0, 1, bytes([byte])))
-            self.assertEqual([cells(session), cells(session, 1)], [[NONE], [NONE]])
-            self.assertEqual(own(session), ["--", NONE, NONE])
-            self.assertEqual(own(session, 1), ["++", ALL, ALL])
+            calls = [size(4, 1), send(0, 0, b""), beat(0), send(1, 1, b"\x1b[2J\x1b[47h\x1b[2J"),
+                     send(0, 1, bytes([byte]))]
+            self.assertEqual([cells(calls), cells(calls, 1)], [[NONE], [NONE]])
+            self.assertEqual(own(calls), ["--", NONE, NONE])
+            self.assertEqual(own(calls, 1), ["++", ALL, ALL])
+
+    def test_bytes_behind_what_may_not_be_held_leave_nothing_sure(self):
+        # The receiver holds 27 [ still, but nobody knows whether the sender does.
+        for sent in (b"4", b";", b"47h", b"47l", b"H", b"2J"):
+            calls = [size(4, 1), send(0, 1, b"\x1b["), send(0, 0, b""), beat(0),
+                     send(1, 1, b"\x1b[2J\x1b[47h\x1b[2J"), send(0, 1, sent)]
+            self.assertEqual([cells(calls), cells(calls, 1)], [[NONE], [NONE]], sent)
+            self.assertEqual([own(calls), own(calls, 1)], [["--", NONE, NONE], ["++", ALL, ALL]], sent)
+
+    def test_27_in_the_midst_of_a_control_changes_nothing_else(self):
+        calls = [size(4, 1), send(0, 1, b"a\x1b[4"), send(0, 1, b"\x1b")]
+        self.assertEqual([cells(calls), cells(calls, 1)], [[ALL], [ALL]])
+        self.assertEqual(own(calls), ["++", ALL, ALL])
+        calls = [size(4, 1), send(0, 1, b"a\x1b[4"), send(0, 0, b""), beat(0), send(1, 1, b"\x1b[2J"),
+                 send(0, 1, b"\x1b")]
+        self.assertEqual([cells(calls), cells(calls, 1)], [[ALL], [NONE]])
+        self.assertEqual(own(calls), ["+-", NONE, NONE])
 
     def test_bytes_held_change_nothing(self):
-        session = session_after(size(4, 1), send(0, 0, b""), beat(0), send(1, 1, b"\x1b[2J"), send(0, 1, b"\x1b[4;7"))
-        self.assertEqual(own(session), ["+-", NONE, NONE])
-        self.assertEqual(cells(session), [ALL])
+        calls = [size(4, 1), send(0, 0, b""), beat(0), send(1, 1, b"\x1b[2J"), send(0, 1, b"\x1b[4;7")]
+        self.assertEqual(own(calls), ["+-", NONE, NONE])
+        self.assertEqual(cells(calls), [ALL])
 
     def test_screen_told(self):
         for letter in b"hl":
             self.assertEqual(own(doubtful(b"\x1b[47" + bytes([letter]))), ["++", NONE, NONE])
+            calls = [size(4, 1), send(0, 0, b""), beat(0), send(1, 1, b"\x1b[2J\x1b[47h\x1b[2J"),
+                     send(0, 1, b"\x1b[0047" + bytes([letter]))]
+            self.assertEqual(own(calls), ["++", NONE, NONE])
+            self.assertEqual([cells(calls), cells(calls, 1)], [[ALL], [ALL]])
 
     def test_other_bytes_while_the_screen_is_not_sure(self):
-        for sent in (b"\x1b[H", b"\x1b[m", b"\x1b[46h", b"\x1b[47;h", b"\x1b[Q", b"\x1b \r", b"\x1b\x00", b"\x1b[1;2;3H"):
-            session = session_after(size(4, 1), send(0, 0, b""), beat(0), send(1, 1, b"\x1b[2J\x1b[47h\x1b[2J"),
-                                    send(0, 1, sent))
-            self.assertEqual([cells(session), cells(session, 1)], [[NONE], [NONE]])
-            self.assertEqual(own(session), ["+-", NONE, NONE])
+        for sent in (b"\x1b[H", b"\x1b[m", b"\x1b[46h", b"\x1b[47;h", b"\x1b[Q", b"\x1b \r", b"\x1b\x00",
+                     b"\x1b[1;2;3H"):
+            calls = [size(4, 1), send(0, 0, b""), beat(0), send(1, 1, b"\x1b[2J\x1b[47h\x1b[2J"),
+                     send(0, 1, sent)]
+            self.assertEqual([cells(calls), cells(calls, 1)], [[NONE], [NONE]])
+            self.assertEqual(own(calls), ["+-", NONE, NONE])
 
     def test_the_screen_written_to_alone(self):
-        session = doubtful(b"\x1b[47h\x1b[H\x1b[2J")
-        self.assertEqual([cells(session), cells(session, 1)], [[NONE] * 3, [ALL] * 3])
-        self.assertEqual(own(session), ["++", NONE, "+---"])
+        calls = doubtful(b"\x1b[47h\x1b[H\x1b[2J")
+        self.assertEqual([cells(calls), cells(calls, 1)], [[NONE] * 3, [ALL] * 3])
+        self.assertEqual(own(calls), ["++", NONE, "+---"])
 
 
 class OwnState(unittest.TestCase):
@@ -153,14 +175,14 @@ class OwnState(unittest.TestCase):
             self.check(b"\x1b[H" + sent, "+---")
 
     def test_kept_place_becomes_unsure_again(self):
-        session = doubtful(b"\x1b[47l\x1b[H\x1b[s\nx\x1b[s")
-        self.assertEqual(own(session), ["++", NONE, NONE])
+        calls = doubtful(b"\x1b[47l\x1b[H\x1b[s\nx\x1b[s")
+        self.assertEqual(own(calls), ["++", NONE, NONE])
 
 
 class Signs(unittest.TestCase):
     def test_place_not_sure(self):
-        session = doubtful(b"\x1b[47l\x1b[2Ja")
-        self.assertEqual(cells(session), [NONE] * 3)
+        calls = doubtful(b"\x1b[47l\x1b[2Ja")
+        self.assertEqual(cells(calls), [NONE] * 3)
 
     def test_colour_sure_or_not(self):
         self.assertEqual(cells(doubtful(b"\x1b[47l\x1b[2;2H\x1b[2J\x1b[ma")), [ALL] * 3)
@@ -181,44 +203,44 @@ class Signs(unittest.TestCase):
         self.assertEqual(cells(one_unsure(b"\x1b[m\x1b[1;6Ha", unsure=b"\x1b[1;6H")), ["++++-+"])
 
     def test_wrapped_with_the_region_sure(self):
-        session = one_unsure(b"\x1b[m\x1b[2;5Hbcd", height=2)
-        self.assertEqual(cells(session), ["++++++", "++++++"])
-        session = one_unsure(b"\x1b[m\x1b[2;5Hbcd", height=2, unsure=b"\x1b[2;3H")
-        self.assertEqual(cells(session), ["++-+++", "++++++"])
-        session = one_unsure(b"\x1b[m\x1b[1;5Hbcd", height=2, unsure=b"\x1b[2;1H")
-        self.assertEqual(cells(session), ["++++++", "+-++++"])
+        calls = one_unsure(b"\x1b[m\x1b[2;5Hbcd", height=2)
+        self.assertEqual(cells(calls), ["++++++", "++++++"])
+        calls = one_unsure(b"\x1b[m\x1b[2;5Hbcd", height=2, unsure=b"\x1b[2;3H")
+        self.assertEqual(cells(calls), ["++-+++", "++++++"])
+        calls = one_unsure(b"\x1b[m\x1b[1;5Hbcd", height=2, unsure=b"\x1b[2;1H")
+        self.assertEqual(cells(calls), ["++++++", "+-++++"])
 
     def test_wide_in_the_last_column_is_wrapped(self):
-        session = one_unsure(b"\x1b[m\x1b[1;6H\xc0", height=2, unsure=b"\x1b[1;6H")
-        self.assertEqual(cells(session), ["+++++-", "++++++"])
+        calls = one_unsure(b"\x1b[m\x1b[1;6H\xc0", height=2, unsure=b"\x1b[1;6H")
+        self.assertEqual(cells(calls), ["+++++-", "++++++"])
 
     def test_wrapped_with_the_region_not_sure(self):
-        session = doubtful(b"\x1b[47l\x1b[H\x1b[2J\x1b[mabcde")
-        self.assertEqual(cells(session), [NONE] * 3)
-        self.assertEqual(own(session), ["++", "--+-", NONE])
+        calls = doubtful(b"\x1b[47l\x1b[H\x1b[2J\x1b[mabcde")
+        self.assertEqual(cells(calls), [NONE] * 3)
+        self.assertEqual(own(calls), ["++", "--+-", NONE])
 
 
 class Down(unittest.TestCase):
     def test_place_or_region_not_sure(self):
-        session = doubtful(b"\x1b[47l\x1b[2J\n")
-        self.assertEqual(cells(session), [NONE] * 3)
-        session = doubtful(b"\x1b[47l\x1b[H\x1b[2J\n")
-        self.assertEqual(cells(session), [NONE] * 3)
-        self.assertEqual(own(session), ["++", NONE, NONE])
+        calls = doubtful(b"\x1b[47l\x1b[2J\n")
+        self.assertEqual(cells(calls), [NONE] * 3)
+        calls = doubtful(b"\x1b[47l\x1b[H\x1b[2J\n")
+        self.assertEqual(cells(calls), [NONE] * 3)
+        self.assertEqual(own(calls), ["++", NONE, NONE])
         # The region is sure, the place is not: the unsure kept place was gone to.
-        session = doubtful(b"\x1b[47l\x1b[r\x1b[2J\x1b[u\n")
-        self.assertEqual(cells(session), [NONE] * 3)
-        self.assertEqual(own(session), ["++", "---+", NONE])
+        calls = doubtful(b"\x1b[47l\x1b[r\x1b[2J\x1b[u\n")
+        self.assertEqual(cells(calls), [NONE] * 3)
+        self.assertEqual(own(calls), ["++", "---+", NONE])
 
     def test_moves_with_the_rows(self):
-        session = doubtful(b"\x1b[47l\x1b[2;3r\x1b[2J\x1b[3;2Hx\x1b[3H\n")
-        self.assertEqual(cells(session), [ALL, "+-++", ALL])
-        session = doubtful(b"\x1b[47l\x1b[2;3r\x1b[2J\x1b[1;2Hx\x1b[3H\n")
-        self.assertEqual(cells(session), ["+-++", ALL, ALL])
+        calls = doubtful(b"\x1b[47l\x1b[2;3r\x1b[2J\x1b[3;2Hx\x1b[3H\n")
+        self.assertEqual(cells(calls), [ALL, "+-++", ALL])
+        calls = doubtful(b"\x1b[47l\x1b[2;3r\x1b[2J\x1b[1;2Hx\x1b[3H\n")
+        self.assertEqual(cells(calls), ["+-++", ALL, ALL])
 
     def test_no_row_taken_out(self):
-        session = doubtful(b"\x1b[47l\x1b[r\x1b[2K\n")
-        self.assertEqual(cells(session), [ALL, NONE, NONE])
+        calls = doubtful(b"\x1b[47l\x1b[r\x1b[2K\n")
+        self.assertEqual(cells(calls), [ALL, NONE, NONE])
 
 
 class Clearing(unittest.TestCase):
@@ -283,8 +305,8 @@ class RowsMoved(unittest.TestCase):
 
     def test_outside_the_region(self):
         for letter in b"LM":
-            session = doubtful(b"\x1b[47l\x1b[2;3r\x1b[2J\x1b[2;2Hx\x1b[H" + ESC + bytes([letter]))
-            self.assertEqual(cells(session), [ALL, "+-++", ALL])
+            calls = doubtful(b"\x1b[47l\x1b[2;3r\x1b[2J\x1b[2;2Hx\x1b[H" + ESC + bytes([letter]))
+            self.assertEqual(cells(calls), [ALL, "+-++", ALL])
 
 
 class CellsMoved(unittest.TestCase):
@@ -299,6 +321,57 @@ class CellsMoved(unittest.TestCase):
             self.assertEqual(cells(one_unsure(b"\x1b[2;1H" + last, height=2)), ["++-+++", "++++++"])
 
 
+class EachSenderAndScreen(unittest.TestCase):
+    # What is sent once it is sure which screen; what is sure then of the screen's cells, and of its sender.
+    LINES = (
+        (b"", [NONE] * 3, NONE),
+        (b"a", [NONE] * 3, NONE),
+        (b"\x1b[H", [NONE] * 3, "+---"),
+        (b"\x1b[1;9r", [NONE] * 3, NONE),
+        (b"\x1b[1;2r", [NONE] * 3, "+--+"),
+        (b"\x1b[33m", [NONE] * 3, "--+-"),
+        (b"\x1b[2;2H\x1b[s", [NONE] * 3, "++--"),
+        (b"\x1b[2;2H\x1b[u", [NONE] * 3, NONE),
+        (b"\x1b[2;2Ha", [NONE, "----", NONE], "+---"),
+        (b"\x1b[m\x1b[2;2Ha", [NONE, "-+--", NONE], "+-+-"),
+        (b"\x1b[m\x1b[2;2H\xc0", [NONE, "-++-", NONE], "+-+-"),
+        (b"\x1b[m\x1b[2;4Hab", [NONE] * 3, "--+-"),
+        (b"\x1b[m\x1b[r\x1b[3;3Habc", [NONE, "---+", ALL], "+-++"),
+        (b"\x1b[2;2H\n", [NONE] * 3, NONE),
+        (b"\x1b[r\x1b[2;2H\n", [NONE] * 3, "+--+"),
+        (b"\x1b[r\x1b[3;2H\n", [NONE, NONE, ALL], "+--+"),
+        (b"\x1b[2J", [ALL] * 3, NONE),
+        (b"\x1b[2J\x1b[J", [NONE] * 3, NONE),
+        (b"\x1b[2;2H\x1b[J", [NONE, "-+++", ALL], "+---"),
+        (b"\x1b[2;2H\x1b[1J", [ALL, "++--", NONE], "+---"),
+        (b"\x1b[2J\x1b[2K", [NONE] * 3, NONE),
+        (b"\x1b[2;2H\x1b[K", [NONE, "-+++", NONE], "+---"),
+        (b"\x1b[2;2H\x1b[1K", [NONE, "++--", NONE], "+---"),
+        (b"\x1b[2;2H\x1b[2K", [NONE, ALL, NONE], "+---"),
+        (b"\x1b[2J\x1b[L", [NONE] * 3, NONE),
+        (b"\x1b[2J\x1b[2;2H\x1b[M", [NONE] * 3, "+---"),
+        (b"\x1b[r\x1b[2;2H\x1b[L", [NONE, ALL, NONE], "+--+"),
+        (b"\x1b[r\x1b[2;2H\x1b[M", [NONE, NONE, ALL], "+--+"),
+        (b"\x1b[2J\x1b[@", [NONE] * 3, NONE),
+        (b"\x1b[2J\x1b[2;2H\x1b[P", [ALL] * 3, "+---"),
+        (b"\x1b[2;2H\x1b[K\x1b[@", [NONE] * 3, "+---"),
+        (b"\x1b[2J\x1b[2;2H\r\x08\t\x00\x1b[A\x1b[q\x1b[3K\x1b[38m", [ALL] * 3, "+---"),
+    )
+
+    def test_each_line(self):
+        for i in (0, 1):
+            for screen in (0, 1):
+                for sent, sure_cells, sure_own in self.LINES:
+                    calls = [size(4, 3), send(i, 0, b""), send(i, 1, b"\x1b[47" + b"lh"[screen:screen + 1] + sent)]
+                    at = (i, screen, sent)
+                    pens = [NONE, NONE]
+                    pens[screen] = sure_own
+                    self.assertEqual(cells(calls, screen), sure_cells, at)
+                    self.assertEqual(cells(calls, 1 - screen), [NONE] * 3, at)
+                    self.assertEqual(own(calls, i), ["++"] + pens, at)
+                    self.assertEqual(own(calls, 1 - i), ["++", ALL, ALL], at)
+
+
 def random_bytes(source):
     pieces = [b"a", b"b", b"\xc0", b"\xc1", b"\n", b"\r", b"\x08", b"\t", b"\x1b", b"\x1b[", b"7", b"\x00"]
     controls = [b"1;2H", b"2;1H", b"H", b"r", b"1;2r", b"2;3r", b"J", b"1J", b"2J", b"K", b"1K", b"2K", b"L", b"2M",
@@ -307,33 +380,19 @@ def random_bytes(source):
     return b"".join(source.choice(pieces) for number in range(source.randint(0, 8)))
 
 
-def wrong_and_sure(session):
-    """How many cells are not the same on both sides, and how many of these are told sure."""
-    wrong = 0
-    told_sure = 0
-    for screen in (0, 1):
-        for number in range(session.height):
-            pairs = zip(*[side.screens[screen].rows[number].cells for side in session.sides])
-            for column, (left, right) in enumerate(pairs):
-                wrong += left != right
-                told_sure += left != right and session.sureness.screens[screen].rows[number][column]
-    return wrong, told_sure
-
-
 class NothingWrongIsSure(unittest.TestCase):
     def test_when_all_losses_are_known(self):
         source = random.Random(59)
-        wrong = 0
+        seen = 0
         for number in range(400):
             calls = [size(source.randint(2, 5), source.randint(1, 3))]
             for piece in range(12):
                 calls.append(send(source.randint(0, 1), int(source.random() < 0.8), random_bytes(source)))
-            session = session_after(*calls, beat(0), beat(1), send(0, 1, random_bytes(source)),
-                                    send(1, 1, random_bytes(source)))
-            told = wrong_and_sure(session)
-            wrong += told[0]
+            calls += [beat(0), beat(1), send(0, 1, random_bytes(source)), send(1, 1, random_bytes(source)), wrong()]
+            told = ask(*calls)[-1]
+            seen += told[0]
             self.assertEqual(told[1], 0, calls)
-        self.assertGreater(wrong, 100)
+        self.assertGreater(seen, 100)
 
 
 if __name__ == "__main__":

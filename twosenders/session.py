@@ -64,3 +64,20 @@ def send_picture(session, i, comes):
 
 def tell_sent(session, i):
     learn(session, i, session.sent[i])
+
+
+def wrong_in_row(sent, received, sure):
+    """For each cell that is not the same in both rows whether it is told sure."""
+    return [sure[column] for column in range(len(sure)) if sent.cells[column] != received.cells[column]]
+
+
+def wrong_cells(session):
+    """For each cell that is not the same on both sides whether it is told sure."""
+    told = []
+    for screen in (0, 1):
+        sent = session.sides[SENDING].screens[screen].rows
+        received = session.sides[RECEIVING].screens[screen].rows
+        sure = session.sureness.screens[screen].rows
+        for number in range(session.height):
+            told.extend(wrong_in_row(sent[number], received[number], sure[number]))
+    return told
